@@ -1,0 +1,1 @@
+"""Sumstand: a file store on shelves with sums, without a log."""
