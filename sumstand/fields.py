@@ -36,6 +36,19 @@ def combined(row, factor, other, p):
     return tuple((number + factor * added) % p for number, added in zip(row, other))
 
 
+def times(matrix, other, many, p):
+    """Return the products of the rows of a matrix and another matrix, which has many columns."""
+    return tuple(product_of(row, other, many, p) for row in matrix)
+
+
+def product_of(row, matrix, many, p):
+    """Return the sum of the matrix's rows, each times its number of the row."""
+    total = (0,) * many
+    for factor, other in zip(row, matrix):
+        total = combined(total, factor, other, p)
+    return total
+
+
 def left_null(matrix, many, p):
     """Return the rows in reduced form that span all rows whose product with the matrix is nought."""
     rows, places = reduced(with_marks(matrix), many, p)

@@ -60,7 +60,21 @@ def check_data_number(shape, x):
         raise BadShelf(x)
 
 
+def is_loss(shape, thing):
+    """Return whether thing is a loss: a rising tuple of shelves."""
+    return is_rising(thing, shelf_count(shape))
+
+
 def check_loss(shape, lost):
-    """Raise BadShelf unless lost is a loss: a rising tuple of shelves."""
-    if not is_rising(lost, shelf_count(shape)):
+    """Raise BadShelf unless lost is a loss."""
+    if not is_loss(shape, lost):
         raise BadShelf(-1)
+
+
+def is_shape(thing):
+    """Return whether thing is a shape."""
+    try:
+        made_shape(thing)
+    except BadShape:
+        return False
+    return True

@@ -1,7 +1,7 @@
 """Rows across the shelves: data, right rows with their sums, and what is left of rows."""
 
 from sumstand.errors import BadCell
-from sumstand.fields import combined
+from sumstand.fields import times
 from sumstand.forms import is_row, is_tuple_of
 from sumstand.shapes import made_shape, shelf_count
 
@@ -31,12 +31,13 @@ def made_left(shape, left):
 def sums(shape, data):
     """Return the sums of the data, one for each row of the table."""
     made_data(shape, data)
-    return tuple(sum_by(shape, row, data) for row in shape[3])
+    return sums_of(shape, data)
 
 
 def stripe(shape, data):
     """Return the right row of the data: their sums, then the data."""
-    return sums(shape, data) + data
+    made_data(shape, data)
+    return right_row(shape, data)
 
 
 def lost_of(left):
@@ -49,9 +50,21 @@ def is_cell(shape, thing):
     return is_row(thing, shape[1], shape[0])
 
 
-def sum_by(shape, row, data):
-    """Return the sum of the data, each times its number of a row of the table."""
-    total = (0,) * shape[1]
-    for factor, cell in zip(row, data):
-        total = combined(total, factor, cell, shape[0])
-    return total
+def is_data(shape, thing):
+    """Return whether thing are data of the shape."""
+    return is_tuple_of(thing, shape[2]) and all(is_cell(shape, cell) for cell in thing)
+
+
+def sums_of(shape, data):
+    """Return the sums of the data, without asking for their form."""
+    return times(shape[3], data, shape[1], shape[0])
+
+
+def right_row(shape, data):
+    """Return the right row of the data, without asking for their form."""
+    return sums_of(shape, data) + data
+
+
+def with_cell(data, x, cell):
+    """Return the data with another cell as data x."""
+    return data[:x] + (cell,) + data[x + 1:]

@@ -19,6 +19,10 @@ NO_NUMBERS = (None, True, False, "", "3", "abc", (), (3,), ((3,), 3), nested(50)
 # Values that are no tuple.
 NO_TUPLES = (None, True, False, "", "3", "abc", 0, 3, -1, 10**999)
 
+# What is no loss of five shelves.
+NO_LOSSES = NO_TUPLES + ((-1,), (5,), (0, 5), (0, 0), (1, 0), (0, 2, 1), (0, 1, 2, 3, 4, 5), nested(50))
+NO_LOSSES += tuple((part,) for part in NO_NUMBERS) + ((0, True), (False, 1), (0, "1"), ((0, 1),))
+
 # A shape for ordinary calls, which stands, and the one of the examples of rows.
 SHAPE = (7, 1, 2, ((1, 1), (1, 2), (1, 4)), 1)
 ROW_SHAPE = (7, 1, 2, ((1, 1), (1, 2), (1, 3)), 1)
@@ -81,3 +85,18 @@ class Numbers:
 
     def matrix(self, rows, many, limit):
         return tuple(self.row(many, limit) for _ in range(rows))
+
+
+def some_shapes(seed, many):
+    """Shapes of all sizes whose tables look as if by chance, with many noughts and ones."""
+    numbers = Numbers(seed)
+    for _ in range(many):
+        p = (2, 3, 5, 7, 257, 65521)[numbers.below(6)]
+        n, c, e = 1 + numbers.below(6), numbers.below(6), numbers.below(4)
+        kinds = numbers.below(3)
+        choices = ((0, 1, p - 1), (1, p - 1), ())[kinds]
+        rows = []
+        for _ in range(c):
+            row = numbers.row(n, p)
+            rows.append(tuple(choices[number % len(choices)] for number in row) if choices else row)
+        yield p, (1, 2, 32)[numbers.below(3)], n, tuple(rows), e

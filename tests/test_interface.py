@@ -24,10 +24,35 @@ FUNCTIONS = {
         "solved": "matrix many right p",
     },
     "traces": {"trace": "shape lost x mask"},
+    "stories": {
+        "made_story": "shape story",
+        "ends": "story",
+        "at_rest": "story",
+        "left_by": "shape story lost",
+        "clash": "shape lost one two",
+    },
+    "readings": {"edges": "shape left", "told": "shape left"},
+    "judge": {
+        "safe": "shape lost",
+        "stands": "shape",
+        "clash_in": "shape lost",
+        "first_clash": "shape",
+    },
+    "papers": {"stand_paper": "shape", "paper_right": "shape paper"},
+    "orders": {"order_clash": "shape orders"},
+    "finder": {"table_at": "p n c number", "finder": "p n c e first many"},
 }
 
 DATA = ((3,), (5,))
 POWERS = ((1,), (2,), (4,))
+STORY = (DATA, 0, (4,), (1, 3))
+OTHER = (((4,), (0,)), 0, (3,), ())
+EDGE = (((3,), (5,)), ((4,), (5,)))
+LEFT = ((1,), (0,), (2,), (4,), None)
+COPY = (5, 1, 1, ((2,),), 1)
+PAPER = (((1,), (), ((3,),)),)
+BARE = (7, 1, 3, (), 1)
+BARE_CLASH = ((0,), (((0,),) * 3, 0, (0,), ()), (((1,), (0,), (0,)), 0, (1,), ()))
 
 # Of each function a call with all arguments by name, and what it returns.
 CALLS = (
@@ -45,6 +70,22 @@ CALLS = (
     ("fields", "left_inverse", {"p": 7, "many": 1, "matrix": POWERS}, ((1, 0, 0),)),
     ("fields", "solved", {"p": 7, "right": (5, 3, 6), "many": 1, "matrix": POWERS}, (5,)),
     ("traces", "trace", {"mask": (0, 2), "x": 1, "lost": (1,), "shape": SHAPE}, (1, 4)),
+    ("stories", "made_story", {"story": STORY, "shape": SHAPE}, STORY),
+    ("stories", "ends", {"story": STORY}, EDGE),
+    ("stories", "at_rest", {"story": STORY}, False),
+    ("stories", "left_by", {"lost": (4,), "story": STORY, "shape": SHAPE}, LEFT),
+    ("stories", "clash", {"two": OTHER, "one": STORY, "lost": (0, 1, 2, 3, 4), "shape": SHAPE}, True),
+    ("readings", "edges", {"left": LEFT, "shape": SHAPE}, (EDGE,)),
+    ("readings", "told", {"left": LEFT, "shape": SHAPE}, DATA),
+    ("judge", "safe", {"lost": (3, 4), "shape": SHAPE}, False),
+    ("judge", "stands", {"shape": SHAPE}, True),
+    ("judge", "clash_in", {"lost": (3,), "shape": SHAPE}, None),
+    ("judge", "first_clash", {"shape": SHAPE}, None),
+    ("papers", "stand_paper", {"shape": COPY}, PAPER),
+    ("papers", "paper_right", {"paper": PAPER, "shape": COPY}, True),
+    ("orders", "order_clash", {"orders": ((0,), (1,), (2,)), "shape": BARE}, BARE_CLASH),
+    ("finder", "table_at", {"number": 0, "c": 3, "n": 2, "p": 7}, ((6, 6), (3, 2), (3, 6))),
+    ("finder", "finder", {"many": 1, "first": 0, "e": 0, "c": 3, "n": 2, "p": 7}, (0, ((6, 6), (3, 2), (3, 6)))),
 )
 
 
