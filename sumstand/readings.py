@@ -44,6 +44,11 @@ def told_standing(shape, left):
     return torn_data(loss, left) if data is None else data
 
 
+def whole_standing(shape, left):
+    """Return the data whose right row is left, None if there are none; as told_standing, it asks nothing."""
+    return whole_data(loss_of(shape, left), left)
+
+
 def loss_of(shape, left):
     """Return the loss of a left row; raise TooFew if other data have the same kept cells."""
     lost = lost_of(left)

@@ -73,7 +73,8 @@ TOP_NODES = (ast.ImportFrom, ast.FunctionDef, ast.ClassDef, ast.Assign)
 def faults(name, source, defined):
     """The faults of a file, rising by line: triples of a line, a rule and words.
 
-    name is the name of the file, defined tells the names that each module of the package defines.
+    name is the name of the file, defined tells the names that each module of the package defines, and
+    under the empty name those of all methods.
     """
     found = file_faults(name, source)
     tree = ast.parse(source)
@@ -91,6 +92,15 @@ def defined_in(source):
         elif isinstance(node, ast.Assign):
             names.update(target.id for target in node.targets if isinstance(target, ast.Name))
     return names
+
+
+def methods_in(source):
+    """The names of the methods of a file's classes."""
+    return {
+        node.name
+        for made in ast.parse(source).body if isinstance(made, ast.ClassDef)
+        for node in made.body if isinstance(node, ast.FunctionDef)
+    }
 
 
 def file_faults(name, source):

@@ -4,6 +4,7 @@ import importlib
 import inspect
 import unittest
 
+from tests.arrays import with_data
 from tests.helpers import Case, ROW_SHAPE, SHAPE
 
 FUNCTIONS = {
@@ -41,6 +42,34 @@ FUNCTIONS = {
     "papers": {"stand_paper": "shape", "paper_right": "shape paper"},
     "orders": {"order_clash": "shape orders"},
     "finder": {"table_at": "p n c number", "finder": "p n c e first many"},
+    "shelves": {"told_data": "array row", "is_whole": "array row"},
+    "batches": {
+        "made_code": "array code",
+        "do": "array code",
+        "stopped": "array code many came",
+        "deed": "array row x cell",
+    },
+    "mending": {"mend_row": "array row", "ask": "array row"},
+    "celltexts": {"array_text": "array", "read_array": "texts"},
+}
+
+# Of each class the arguments that its methods take.
+CLASSES = {
+    "shelves": {
+        "Array": {
+            "__init__": "self shape rows",
+            "state": "self shelf",
+            "cell": "self row shelf",
+            "left": "self row",
+            "lose": "self shelf",
+            "replace": "self shelf cells",
+            "new": "self column cells",
+            "sum_more": "self numbers cells",
+        },
+    },
+    "cellstore": {
+        "Cells": {"__init__": "self array", "size": "self", "look": "self a", "drive": "self writes"},
+    },
 }
 
 DATA = ((3,), (5,))
@@ -52,6 +81,9 @@ LEFT = ((1,), (0,), (2,), (4,), None)
 COPY = (5, 1, 1, ((2,),), 1)
 PAPER = (((1,), (), ((3,),)),)
 BARE = (7, 1, 3, (), 1)
+ARRAY = with_data(COPY, [((1,),), ((3,),)])
+TEXTS = ("shape 5 1 1 1 2", "sum 2", "shelf 0 kept 2 1", "shelf 1 kept 1 3")
+CODE = (((0, 1, (1,)), (1, 1, (3,))),)
 BARE_CLASH = ((0,), (((0,),) * 3, 0, (0,), ()), (((1,), (0,), (0,)), 0, (1,), ()))
 
 # Of each function a call with all arguments by name, and what it returns.
@@ -86,6 +118,15 @@ CALLS = (
     ("orders", "order_clash", {"orders": ((0,), (1,), (2,)), "shape": BARE}, BARE_CLASH),
     ("finder", "table_at", {"number": 0, "c": 3, "n": 2, "p": 7}, ((6, 6), (3, 2), (3, 6))),
     ("finder", "finder", {"many": 1, "first": 0, "e": 0, "c": 3, "n": 2, "p": 7}, (0, ((6, 6), (3, 2), (3, 6)))),
+    ("shelves", "told_data", {"row": 1, "array": ARRAY}, ((3,),)),
+    ("shelves", "is_whole", {"row": 1, "array": ARRAY}, True),
+    ("batches", "made_code", {"code": CODE, "array": ARRAY}, CODE),
+    ("batches", "do", {"code": CODE, "array": ARRAY}, None),
+    ("batches", "stopped", {"came": (1,), "many": 0, "code": CODE, "array": ARRAY}, None),
+    ("batches", "deed", {"cell": (3,), "x": 0, "row": 0, "array": ARRAY}, (((0, 0, (1,)), (1, 0, (3,))),)),
+    ("mending", "mend_row", {"row": 0, "array": ARRAY}, ()),
+    ("mending", "ask", {"row": 0, "array": ARRAY}, ((), ((1,),))),
+    ("celltexts", "array_text", {"array": ARRAY}, TEXTS),
 )
 
 
@@ -127,8 +168,23 @@ class Interface(Case):
                 self.same(found(module, name)(**arguments), first)
                 self.assertEqual(repr(arguments), before)
 
+    def test_classes_are_defined_where_they_are_listed(self):
+        for module, classes in CLASSES.items():
+            for name, methods in classes.items():
+                made = found(module, name)
+                self.assertTrue(inspect.isclass(made))
+                self.assertEqual((made.__module__, made.__name__), (f"sumstand.{module}", name))
+                for method, arguments in methods.items():
+                    with self.subTest(module=module, name=name, method=method):
+                        self.assertTrue(inspect.isfunction(vars(made)[method]))
+                        self.assertEqual(list(inspect.signature(vars(made)[method]).parameters), arguments.split())
+
+    def test_an_array_is_read(self):
+        self.same(found("celltexts", "array_text")(found("celltexts", "read_array")(texts=TEXTS)), TEXTS)
+
     def test_each_listed_function_is_called(self):
-        called = sorted((module, name) for module, name, _, _ in CALLS)
+        # The one whose answer has no text of its own is called above.
+        called = sorted([(module, name) for module, name, _, _ in CALLS] + [("celltexts", "read_array")])
         listed = sorted((module, name) for module, names in FUNCTIONS.items() for name in names)
         self.assertEqual(called, listed)
 

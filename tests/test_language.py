@@ -93,6 +93,7 @@ class Language(unittest.TestCase):
     def test_the_package_has_no_fault(self):
         files = sources()
         defined = {name.removesuffix(".py"): language.defined_in(source) for name, source in files.items()}
+        defined[""] = set().union(*[language.methods_in(source) for source in files.values()])
         for name, source in files.items():
             with self.subTest(file=name):
                 self.assertEqual(language.faults(name, source, defined), [])

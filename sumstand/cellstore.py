@@ -1,0 +1,58 @@
+"""The data cells of an array, by their addresses."""
+
+from sumstand.batches import change
+from sumstand.errors import BadAddress, BadWrite, Unwhole
+from sumstand.forms import is_from, is_tuple_of
+from sumstand.mending import ask
+from sumstand.readings import whole_standing
+from sumstand.stripes import is_cell, with_cell
+
+
+class Cells:
+    """The data cells of an array: data x of a row has the address x * rows + row."""
+
+    def __init__(self, array):
+        self.array = array
+
+    def size(self):
+        """Return how many addresses there are."""
+        return self.array.shape[2] * self.array.rows
+
+    def look(self, a):
+        """Return the cell that is told at an address, if its row is whole."""
+        if not is_address(self, a):
+            raise BadAddress(a)
+        x, row = divmod(a, self.array.rows)
+        data = whole_standing(self.array.shape, self.array.left(row))
+        if data is None:
+            raise Unwhole(row)
+        return data[x]
+
+    def drive(self, writes):
+        """Return the code that writes cells at addresses, one deed behind the other."""
+        check_writes(self, writes)
+        code = []
+        # Of each row that was met the data that are told when the code so far is done.
+        told = {}
+        for a, cell in writes:
+            x, row = divmod(a, self.array.rows)
+            if row not in told:
+                mend, told[row] = ask(self.array, row)
+                code.extend(mend)
+            code.extend(change(self.array, row, told[row], x, cell))
+            told[row] = with_cell(told[row], x, cell)
+        return tuple(code)
+
+
+def check_writes(cells, writes):
+    """Raise BadWrite unless writes are pairs of an address and a cell."""
+    if not isinstance(writes, tuple):
+        raise BadWrite(-1)
+    for index, pair in enumerate(writes):
+        if not is_tuple_of(pair, 2) or not is_address(cells, pair[0]) or not is_cell(cells.array.shape, pair[1]):
+            raise BadWrite(index)
+
+
+def is_address(cells, thing):
+    """Return whether thing is an address of cells."""
+    return is_from(thing, 0, cells.size() - 1)

@@ -1,0 +1,105 @@
+"""Arrays for tests: shapes that stand, arrays with told rows, and all that can be seen of an array."""
+
+from sumstand.batches import do
+from sumstand.shelves import Array
+from sumstand.stories import left_by
+from tests.helpers import SHAPE
+from tests.listing import losses, put, right_of, shelves
+
+# A table of which each part stands: with c sums and any of the columns, e may be c - 2.
+GREAT_TABLE = (
+    (31118, 60993, 4567, 50464, 30999, 36375),
+    (10952, 20171, 32230, 61654, 60710, 185),
+    (14224, 12045, 39761, 18224, 11599, 55064),
+    (10629, 11758, 3295, 65427, 9355, 17887),
+    (46289, 42948, 15608, 15601, 2002, 31583),
+)
+GREAT = (65521, 32, 6, GREAT_TABLE, 3)
+
+COPIES = (7, 1, 1, ((1,), (1,), (1,)), 1)
+BITS = (2, 1, 2, ((1, 0), (0, 1)), 1)
+ELEVEN = (11, 1, 3, ((1, 1, 1), (1, 5, 2), (1, 9, 7)), 1)
+
+# Shapes that stand: of each size that is named as an edge.
+STANDING = (
+    SHAPE,
+    COPIES,
+    COPIES[:4] + (2,),
+    BITS,
+    ELEVEN,
+    (5, 2, 1, (), 0),
+    (3, 1, 6, (), 0),
+    (2, 1, 6, ((1,) * 6,) * 5, 0),
+    (7, 3, 2, ((0, 0), (1, 1)), 0),
+    (65521, 2, 3, tuple(row[:3] for row in GREAT_TABLE[:4]), 2),
+    GREAT,
+)
+
+
+def some_losses(shape, most, many):
+    """Losses of at most so many shelves: all, or as many as told of them, those with most shelves among them."""
+    found = list(losses(shape, most))
+    step = max(1, len(found) // many)
+    return found[::-1][::step]
+
+
+def part_of_great(wide, n, c, e=None):
+    """A shape that stands, with n data and c sums; with c - 2 for e unless another one is told."""
+    return 65521, wide, n, tuple(row[:n] for row in GREAT_TABLE[:c]), c - 2 if e is None else e
+
+
+def filled(shape, rows):
+    """An array whose rows have these cells, one for each shelf."""
+    array = Array(shape, len(rows))
+    for row, cells in enumerate(rows):
+        do(array, (tuple((shelf, row, cell) for shelf, cell in enumerate(cells)),))
+    return array
+
+
+def with_data(shape, rows):
+    """An array with the right rows of these data."""
+    return filled(shape, [right_of(shape, data) for data in rows])
+
+
+def shelf_numbers(array):
+    """How many shelves an array has, the new one counted."""
+    count = shelves(array.shape)
+    try:
+        array.state(count)
+    except ValueError:
+        return count
+    return count + 1
+
+
+def seen(array):
+    """All that an array tells: its shape, its rows, its states, its cells and its left rows."""
+    numbers = range(shelf_numbers(array))
+    return (
+        array.shape,
+        array.rows,
+        tuple(array.state(shelf) for shelf in numbers),
+        tuple(tuple(array.cell(row, shelf) for row in range(array.rows)) for shelf in numbers),
+        tuple(array.left(row) for row in range(array.rows)),
+    )
+
+
+def copied(array):
+    """Another array in which all is as in this one, but for a new shelf, made by its methods alone."""
+    other = Array(array.shape, array.rows)
+    for shelf in range(shelves(array.shape)):
+        cells = tuple(array.cell(row, shelf) for row in range(array.rows))
+        if array.state(shelf) != "kept":
+            other.lose(shelf)
+        if array.state(shelf) == "filling":
+            other.replace(shelf, cells)
+        if array.state(shelf) == "kept":
+            do(other, tuple(((shelf, row, cell),) for row, cell in enumerate(cells)))
+    return other
+
+
+def some_row(numbers, shape):
+    """A row that a story leaves, and the ends of the story."""
+    p, wide, n, table, _ = shape
+    data, x, cell = numbers.matrix(n, wide, p), numbers.below(n), numbers.row(wide, p)
+    came = tuple(shelf for shelf in (*range(len(table)), len(table) + x) if numbers.below(2))
+    return left_by(shape, (data, x, cell, came), ()), (data, put(data, x, cell))
