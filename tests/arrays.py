@@ -3,18 +3,8 @@
 from sumstand.batches import do
 from sumstand.shelves import Array
 from sumstand.stories import left_by
-from tests.helpers import SHAPE
+from tests.helpers import GREAT, GREAT_TABLE, SHAPE, some_story
 from tests.listing import losses, put, right_of, shelves
-
-# A table of which each part stands: with c sums and any of the columns, e may be c - 2.
-GREAT_TABLE = (
-    (31118, 60993, 4567, 50464, 30999, 36375),
-    (10952, 20171, 32230, 61654, 60710, 185),
-    (14224, 12045, 39761, 18224, 11599, 55064),
-    (10629, 11758, 3295, 65427, 9355, 17887),
-    (46289, 42948, 15608, 15601, 2002, 31583),
-)
-GREAT = (65521, 32, 6, GREAT_TABLE, 3)
 
 COPIES = (7, 1, 1, ((1,), (1,), (1,)), 1)
 BITS = (2, 1, 2, ((1, 0), (0, 1)), 1)
@@ -99,7 +89,6 @@ def copied(array):
 
 def some_row(numbers, shape):
     """A row that a story leaves, and the ends of the story."""
-    p, wide, n, table, _ = shape
-    data, x, cell = numbers.matrix(n, wide, p), numbers.below(n), numbers.row(wide, p)
-    came = tuple(shelf for shelf in (*range(len(table)), len(table) + x) if numbers.below(2))
-    return left_by(shape, (data, x, cell, came), ()), (data, put(data, x, cell))
+    story = some_story(numbers, shape)
+    data, x, cell, _ = story
+    return left_by(shape, story, ()), (data, put(data, x, cell))

@@ -27,6 +27,16 @@ NO_LOSSES += tuple((part,) for part in NO_NUMBERS) + ((0, True), (False, 1), (0,
 SHAPE = (7, 1, 2, ((1, 1), (1, 2), (1, 4)), 1)
 ROW_SHAPE = (7, 1, 2, ((1, 1), (1, 2), (1, 3)), 1)
 
+# A table of which each part stands: with c sums and any of the columns, e may be c - 2.
+GREAT_TABLE = (
+    (31118, 60993, 4567, 50464, 30999, 36375),
+    (10952, 20171, 32230, 61654, 60710, 185),
+    (14224, 12045, 39761, 18224, 11599, 55064),
+    (10629, 11758, 3295, 65427, 9355, 17887),
+    (46289, 42948, 15608, 15601, 2002, 31583),
+)
+GREAT = (65521, 32, 6, GREAT_TABLE, 3)
+
 # Each value with the index that BadShape tells of it.
 WRONG_SHAPES = (
     (None, -1),
@@ -100,3 +110,11 @@ def some_shapes(seed, many):
             row = numbers.row(n, p)
             rows.append(tuple(choices[number % len(choices)] for number in row) if choices else row)
         yield p, (1, 2, 32)[numbers.below(3)], n, tuple(rows), e
+
+
+def some_story(numbers, shape):
+    """A story that looks as if by chance."""
+    p, wide, n, table, _ = shape
+    x = numbers.below(n)
+    came = tuple(shelf for shelf in (*range(len(table)), len(table) + x) if numbers.below(2))
+    return numbers.matrix(n, wide, p), x, numbers.row(wide, p), came

@@ -6,10 +6,8 @@ from sumstand.batches import deed, do, made_code, stopped
 from sumstand.errors import BadCell, BadCode, BadRow, BadShelf, BadStop, Spoilt
 from sumstand.mending import mend_row
 from sumstand.shelves import Array, is_whole, told_data
-from tests.arrays import (
-    BITS, COPIES, ELEVEN, GREAT, GREAT_TABLE, STANDING, copied, filled, part_of_great, seen, some_losses, with_data,
-)
-from tests.helpers import Case, NO_NUMBERS, NO_TUPLES, Numbers, SHAPE, nested
+from tests.arrays import BITS, COPIES, ELEVEN, STANDING, copied, filled, part_of_great, seen, some_losses, with_data
+from tests.helpers import Case, GREAT, GREAT_TABLE, NO_NUMBERS, NO_TUPLES, Numbers, SHAPE, nested
 from tests.listing import behind_loss, put, right_of, rising, shelves
 
 WRITE = (0, 1, (5,))

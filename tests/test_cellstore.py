@@ -7,10 +7,8 @@ from sumstand.cellstore import Cells
 from sumstand.errors import BadAddress, BadWrite, Spoilt, Unwhole
 from sumstand.mending import mend_row
 from sumstand.shelves import Array, told_data
-from tests.arrays import (
-    BITS, ELEVEN, GREAT, GREAT_TABLE, STANDING, copied, filled, part_of_great, seen, some_row, with_data,
-)
-from tests.helpers import Case, NO_NUMBERS, NO_TUPLES, Numbers, SHAPE, nested
+from tests.arrays import BITS, ELEVEN, STANDING, copied, filled, part_of_great, seen, some_row, with_data
+from tests.helpers import Case, GREAT, GREAT_TABLE, NO_NUMBERS, NO_TUPLES, Numbers, SHAPE, nested
 from tests.listing import put, right_of
 
 NO_CELLS = NO_TUPLES + ((), (0, 0), (7,), (-1,), (10**999,)) + tuple((part,) for part in NO_NUMBERS)

@@ -6,8 +6,8 @@ from sumstand.batches import do
 from sumstand.celltexts import array_text, read_array
 from sumstand.errors import BadText, NotStanding, Refused
 from sumstand.shelves import Array
-from tests.arrays import BITS, GREAT, GREAT_TABLE, STANDING, filled, part_of_great, seen, some_losses, with_data
-from tests.helpers import Case, NO_NUMBERS, NO_TUPLES, Numbers, SHAPE, nested
+from tests.arrays import BITS, STANDING, filled, part_of_great, seen, some_losses, with_data
+from tests.helpers import Case, GREAT, GREAT_TABLE, NO_NUMBERS, NO_TUPLES, Numbers, SHAPE, nested
 from tests.listing import shelves
 
 EXAMPLE = (
@@ -129,10 +129,14 @@ class WrongTexts(Case):
 
     def test_the_first_text(self):
         self.wrong(0, ())
-        for text in ("", " ", "shape", "shape 2 1 2 1", "shape 2 1 2 1 1 1", "Shape 2 1 2 1 1", "2 1 2 1 1", "x" * 9999):
+        for text in (
+            "", " ", "shape", "shape 2 1 2 1", "shape 2 1 2 1 1 1", "Shape 2 1 2 1 1", "2 1 2 1 1", "x" * 9999,
+        ):
             self.wrong(0, with_text(EXAMPLE, 0, text))
             self.wrong(0, (text,))
-        for text in (" shape 2 1 2 1 1", "shape 2 1 2 1 1 ", "shape  2 1 2 1 1", "shape 2 1 2 1 1\n", "shape\t2 1 2 1 1"):
+        for text in (
+            " shape 2 1 2 1 1", "shape 2 1 2 1 1 ", "shape  2 1 2 1 1", "shape 2 1 2 1 1\n", "shape\t2 1 2 1 1",
+        ):
             self.wrong(0, with_text(EXAMPLE, 0, text))
         for at in range(5):
             for word in NO_FIGURES + ("-0", "65"):
@@ -156,7 +160,9 @@ class WrongTexts(Case):
 
     def test_the_sums(self):
         for at in (1, 2):
-            for text in ("sum ", "sum 1", "sum 1 0 1", "sum  1 0", "sum 1  0", "sum 1 0 ", "sum 1 0\n", "sum 2 0", "sum x"):
+            for text in (
+                "sum ", "sum 1", "sum 1 0 1", "sum  1 0", "sum 1  0", "sum 1 0 ", "sum 1 0\n", "sum 2 0", "sum x",
+            ):
                 self.wrong(at, with_text(EXAMPLE, at, text))
             for word in NO_FIGURES:
                 self.wrong(at, with_text(EXAMPLE, at, f"sum 1 {word}"))

@@ -7,7 +7,9 @@ from sumstand.errors import BadShelf
 from sumstand.judge import clash_in, first_clash, safe, stands
 from sumstand.papers import stand_paper
 from sumstand.stories import clash, left_by, made_story
-from tests.helpers import Case, NO_LOSSES, NO_NUMBERS, NO_TUPLES, Numbers, SHAPE, WRONG_SHAPES, nested, some_shapes
+from tests.helpers import (
+    Case, GREAT, GREAT_TABLE, NO_LOSSES, NO_NUMBERS, NO_TUPLES, Numbers, SHAPE, WRONG_SHAPES, nested, some_shapes,
+)
 from tests.listing import listed_safe, losses, unbroken_rows
 
 CLASH_SHAPE = (7, 1, 3, ((1, 1, 1), (1, 2, 3)), 1)
@@ -205,17 +207,10 @@ class Shapes(Told):
                         self.same(stands((p, 1, n, numbers.matrix(c, n, p), e)), False)
 
     def test_of_the_greatest_shape_within_a_few_seconds(self):
-        table = (
-            (31118, 60993, 4567, 50464, 30999, 36375),
-            (10952, 20171, 32230, 61654, 60710, 185),
-            (14224, 12045, 39761, 18224, 11599, 55064),
-            (10629, 11758, 3295, 65427, 9355, 17887),
-            (46289, 42948, 15608, 15601, 2002, 31583),
-        )
         start = time.monotonic()
-        self.same(stands((65521, 32, 6, table, 3)), True)
-        self.same(first_clash((65521, 32, 6, table, 3)), None)
-        self.same(stands((65521, 32, 6, table[:4] + (table[3],), 3)), False)
+        self.same(stands(GREAT), True)
+        self.same(first_clash(GREAT), None)
+        self.same(stands((65521, 32, 6, GREAT_TABLE[:4] + (GREAT_TABLE[3],), 3)), False)
         self.same(stands((65521, 32, 6, ((1,) * 6,) * 5, 3)), False)
         self.same(stands((65521, 32, 6, ((0,) * 6,) * 5, 3)), False)
         self.assertLess(time.monotonic() - start, 5)

@@ -6,11 +6,8 @@ from sumstand.batches import do, stopped
 from sumstand.errors import BadRow, Spoilt
 from sumstand.mending import ask, mend_row
 from sumstand.shelves import Array, is_whole, told_data
-from tests.arrays import (
-    BITS, COPIES, ELEVEN, GREAT, GREAT_TABLE, copied, filled, part_of_great, seen, some_losses, some_row,
-    with_data,
-)
-from tests.helpers import Case, NO_NUMBERS, Numbers, SHAPE
+from tests.arrays import BITS, COPIES, ELEVEN, copied, filled, part_of_great, seen, some_losses, some_row, with_data
+from tests.helpers import Case, GREAT, GREAT_TABLE, NO_NUMBERS, Numbers, SHAPE
 from tests.listing import losses, put, right_of, rising, shelves, unbroken_rows
 
 # Shapes that stand, of which the rows that stories leave can be listed.

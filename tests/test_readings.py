@@ -8,9 +8,11 @@ from sumstand.errors import BadCell, TooFew, TwoWorlds
 from sumstand.judge import stands
 from sumstand.readings import edges, told
 from sumstand.stories import at_rest, clash, ends, left_by, made_story
-from tests.helpers import Case, NO_NUMBERS, NO_TUPLES, Numbers, SHAPE, nested
+from tests.helpers import (
+    Case, GREAT, GREAT_TABLE, NO_NUMBERS, NO_TUPLES, Numbers, SHAPE, nested, some_story,
+)
 from tests.listing import (
-    all_cells, behind_loss, clashing, disjoint, left_rows, losses, put, right_of, unbroken_rows, whole_rows,
+    all_cells, behind_loss, clashing, disjoint, left_rows, losses, right_of, unbroken_rows, whole_rows,
 )
 
 # Shapes of which all stories can be listed.
@@ -38,16 +40,6 @@ THINNED = (
     (3, 1, 3, ((1, 1, 1), (0, 1, 2), (1, 0, 1)), 1),
     (2, 2, 2, ((1, 0), (1, 1), (0, 1)), 1),
 )
-
-# A shape that stands with the greatest prime, three losses and as many shelves as there can be.
-GREAT_TABLE = (
-    (31118, 60993, 4567, 50464, 30999, 36375),
-    (10952, 20171, 32230, 61654, 60710, 185),
-    (14224, 12045, 39761, 18224, 11599, 55064),
-    (10629, 11758, 3295, 65427, 9355, 17887),
-    (46289, 42948, 15608, 15601, 2002, 31583),
-)
-GREAT = (65521, 32, 6, GREAT_TABLE, 3)
 
 
 def row_of(*numbers):
@@ -224,15 +216,12 @@ class Wholes(Asked):
     def test_a_loss_of_nothing_or_of_sums_alone_is_told_always(self):
         numbers = Numbers(5)
         for shape in (SHAPE, (2, 1, 3, ((1, 1, 1),), 0), (5, 2, 4, ((0, 0, 0, 0), (1, 2, 3, 4), (4, 0, 1, 1)), 3)):
-            p, wide, n, table, _ = shape
             for lost in losses(shape):
-                if any(shelf >= len(table) for shelf in lost):
+                if any(shelf >= len(shape[3]) for shelf in lost):
                     continue
                 for _ in range(5):
-                    data, x, cell = numbers.matrix(n, wide, p), numbers.below(n), numbers.row(wide, p)
-                    came = tuple(j for j in (*range(len(table)), len(table) + x) if numbers.below(2))
-                    answer = told(shape, left_by(shape, (data, x, cell, came), lost))
-                    self.assertIn(answer, (data, put(data, x, cell)))
+                    story = some_story(numbers, shape)
+                    self.assertIn(told(shape, left_by(shape, story, lost)), ends(story))
 
     def test_without_sums(self):
         self.same(edges((7, 2, 2, (), 0), ((1, 2), (3, 4))), ((((1, 2), (3, 4)), ((1, 2), (3, 4))),))
@@ -284,12 +273,6 @@ class Several(Asked):
 class Great(Asked):
     """Where nothing can be listed."""
 
-    def some_story(self, numbers, shape):
-        p, wide, n, table, _ = shape
-        data, x, cell = numbers.matrix(n, wide, p), numbers.below(n), numbers.row(wide, p)
-        came = tuple(j for j in (*range(len(table)), len(table) + x) if numbers.below(2))
-        return data, x, cell, came
-
     def some_loss(self, numbers, shape, many):
         count = len(shape[3]) + shape[2]
         return tuple(sorted({numbers.below(count) for _ in range(many)}))
@@ -297,7 +280,7 @@ class Great(Asked):
     def test_what_any_story_left_is_told(self):
         numbers = Numbers(7)
         for _ in range(60):
-            story = self.some_story(numbers, GREAT)
+            story = some_story(numbers, GREAT)
             lost = self.some_loss(numbers, GREAT, 3)
             left = left_by(GREAT, story, lost)
             found = edges(GREAT, left)
@@ -312,7 +295,7 @@ class Great(Asked):
         numbers = Numbers(11)
         noughts = (65521, 32, 6, ((0,) * 6,) * 5, 3)
         ones = (65521, 32, 6, ((1,) * 6,) * 5, 3)
-        rows = [left_by(GREAT, self.some_story(numbers, GREAT), (5, 7, 10)) for _ in range(5)]
+        rows = [left_by(GREAT, some_story(numbers, GREAT), (5, 7, 10)) for _ in range(5)]
         asked = [(GREAT, left) for left in rows]
         asked += [(GREAT, numbers.matrix(11, 32, 65521)), (GREAT, ((0,) * 32,) * 11)]
         asked += [(shape, ((1,) * 32,) * 5 + ((0,) * 32,) * 6) for shape in (noughts, ones)]
@@ -337,7 +320,7 @@ class Great(Asked):
         worlds = 0
         for _ in range(10):
             lost = (4, 6, 8)
-            left = left_by(shape, self.some_story(numbers, shape), lost)
+            left = left_by(shape, some_story(numbers, shape), lost)
             with self.assertRaises(TwoWorlds) as caught:
                 told(shape, left)
             self.hold_worlds(shape, lost, left, caught.exception.what)

@@ -7,10 +7,8 @@ from sumstand.errors import (
     BadCells, BadColumn, BadRow, BadShape, BadShelf, New, NotLost, NotStanding, Spoilt, TooMany, TooManyLost,
 )
 from sumstand.shelves import Array, is_whole, told_data
-from tests.arrays import (
-    BITS, COPIES, ELEVEN, GREAT, GREAT_TABLE, STANDING, filled, part_of_great, seen, some_losses, with_data,
-)
-from tests.helpers import Case, NO_NUMBERS, NO_TUPLES, Numbers, SHAPE, nested
+from tests.arrays import BITS, COPIES, ELEVEN, STANDING, filled, part_of_great, seen, some_losses, with_data
+from tests.helpers import Case, GREAT, GREAT_TABLE, NO_NUMBERS, NO_TUPLES, Numbers, SHAPE, nested
 from tests.listing import behind_loss, put, right_of, shelves
 
 NO_ROW_COUNTS = NO_NUMBERS + (-1, 0, 65, 10**999)

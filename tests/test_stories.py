@@ -4,7 +4,7 @@ import unittest
 
 from sumstand.errors import BadShape, BadShelf, BadStory
 from sumstand.stories import at_rest, clash, ends, left_by, made_story
-from tests.helpers import Case, NO_LOSSES, NO_NUMBERS, NO_TUPLES, Numbers, SHAPE, nested
+from tests.helpers import Case, NO_LOSSES, NO_NUMBERS, NO_TUPLES, Numbers, SHAPE, nested, some_story
 from tests.listing import all_stories, behind_loss, losses, put, right_of, rising
 
 STORY = (((3,), (5,)), 0, (4,), (1, 3))
@@ -34,14 +34,6 @@ WRONG_STORIES = (
     + [(STORY[:2] + (cell, STORY[3]), 2) for cell in NO_CELLS]
     + [(STORY[:3] + (came,), 3) for came in NO_CAME]
 )
-
-
-def some_story(numbers, shape):
-    """A story that looks as if by chance."""
-    p, wide, n, table, _ = shape
-    x = numbers.below(n)
-    came = tuple(j for j in tuple(range(len(table))) + (len(table) + x,) if numbers.below(2))
-    return numbers.matrix(n, wide, p), x, numbers.row(wide, p), came
 
 
 class MadeStory(Case):
