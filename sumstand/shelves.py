@@ -45,8 +45,10 @@ class Array:
     def left(self, row):
         """Return what is left of a row: the cells of the kept shelves."""
         check_row(self, row)
-        shelves = range(shelf_count(self.shape))
-        return tuple(self._cells[shelf][row] if self._states[shelf] == KEPT else None for shelf in shelves)
+        return tuple(
+            self._cells[shelf][row] if self._states[shelf] == KEPT else None
+            for shelf in range(shelf_count(self.shape))
+        )
 
     def lose(self, shelf):
         """Lose a shelf with all its cells; a new one is not there any more."""

@@ -1,7 +1,8 @@
 """What of ../shared/LANGUAGE.md can be checked simply: faults(..) tells where a file breaks a rule.
 
 It checks rows, lines, signs, names, imports, what stands at module level, kinds of statements and
-expressions, builtins, methods of builtin values and how errors are raised and caught. It is narrower
+expressions, builtins, methods of builtin values, how errors are raised and caught, and what reads a kept
+range, zip or view. It is narrower
 than the rules where the package needs no more: no sets, no lambdas, no decorators but L5's.
 """
 
@@ -60,6 +61,10 @@ NO_WORDS = set(
     _WallAttr""".split()
 )
 
+# Calls whose value is walked on the spot, or kept under narrow conditions.
+KEPT = {"range", "zip", "enumerate", "reversed", "map"}
+VIEWS = {"items", "keys", "values"}
+
 NO_FILES = {"test", "tests", "testing", "site", "conftest", "sitecustomize", "usercustomize", *LIBRARY}
 
 NO_NODES = (
@@ -78,7 +83,7 @@ def faults(name, source, defined):
     """
     found = file_faults(name, source)
     tree = ast.parse(source)
-    for check in (level_faults, import_faults, size_faults, node_faults, name_faults, call_faults, error_faults):
+    for check in CHECKS:
         found.extend(check(tree, defined))
     return sorted(found + sign_faults(source))
 
@@ -282,6 +287,51 @@ def error_faults(tree, defined):
                 if not isinstance(part, ast.Name) or part.id not in CATCHABLE | errors:
                     found.append((node.lineno, "L19", "what is caught"))
     return found
+
+
+def kept_faults(tree, defined):
+    """Kept ranges, zips and views that something is to read which runs, or may run, at another time."""
+    found = []
+    for function in ast.walk(tree):
+        if not isinstance(function, ast.FunctionDef):
+            continue
+        kept = {name for node in ast.walk(function) for name in names_kept_by(node)}
+        for late in ast.walk(function):
+            if late is function or not isinstance(late, (ast.GeneratorExp, ast.Lambda, ast.FunctionDef)):
+                continue
+            for node in ast.walk(late):
+                if isinstance(node, ast.Name) and isinstance(node.ctx, ast.Load) and node.id in kept:
+                    found.append((node.lineno, "L23", f"the kept {node.id} is read late"))
+    return found
+
+
+def names_kept_by(node):
+    """The names that a statement or := gives to a range, a zip or a view."""
+    if isinstance(node, ast.Assign):
+        targets = node.targets
+    elif isinstance(node, (ast.AnnAssign, ast.NamedExpr)):
+        targets = [node.target]
+    else:
+        return []
+    return [target.id for target in targets if isinstance(target, ast.Name) and is_kept(node.value)]
+
+
+def is_kept(value):
+    """Whether a value is a range, a zip or a view, or a choice that may be one."""
+    if isinstance(value, ast.IfExp):
+        return is_kept(value.body) or is_kept(value.orelse)
+    if isinstance(value, ast.BoolOp):
+        return any(is_kept(part) for part in value.values)
+    if not isinstance(value, ast.Call):
+        return False
+    if isinstance(value.func, ast.Name):
+        return value.func.id in KEPT
+    return isinstance(value.func, ast.Attribute) and value.func.attr in VIEWS
+
+
+CHECKS = (
+    level_faults, import_faults, size_faults, node_faults, name_faults, call_faults, error_faults, kept_faults,
+)
 
 
 def ring(imports):

@@ -57,6 +57,21 @@ BROKEN = (
     ("def at():\n    raise ValueError(1)\n", "L19"),
     ("def at(x):\n    try:\n        return x[0]\n    except TypeError:\n        return 1\n", "L19"),
     ("def at(x):\n    return x is at\n", "L20"),
+    # A kept range in a generator expression, a lambda or a nested function; and zips and views likewise.
+    ("def at(x):\n    ks = range(x)\n    return tuple(k for k in ks)\n", "L23"),
+    ("def at(x):\n    ks = range(x)\n    return tuple(k for k in x if k in ks)\n", "L23"),
+    ("def at(x):\n    ks = range(x)\n    return sorted(x, key=lambda k: ks[k])\n", "L23"),
+    ("def at(x):\n    ks = range(x)\n\n    def by():\n        return list(ks)\n    return by()\n", "L23"),
+    ("def at(x):\n    ks: int = range(x)\n    return sum(k for k in ks)\n", "L23"),
+    ("def at(x):\n    if ks := range(x):\n        return any(k for k in ks)\n", "L23"),
+    ("def at(x):\n    ks = range(x) if x else range(3)\n    return any(k for k in ks)\n", "L23"),
+    ("def at(x, y):\n    ks = zip(x, y)\n    return all(k for k in ks)\n", "L23"),
+    ("def at(x):\n    ks = enumerate(x)\n    return dict(k for k in ks)\n", "L23"),
+    ("def at(x):\n    ks = reversed(x)\n    return list(k for k in ks)\n", "L23"),
+    ("def at(x):\n    ks = x.items()\n    return max(k for k in ks)\n", "L23"),
+    ("def at(x):\n    ks = x.keys()\n    return min(k for k in ks)\n", "L23"),
+    ("def at(x):\n    ks = x.values()\n    return ' '.join(k for k in ks)\n", "L23"),
+    ("class At:\n    def at(self, x):\n        ks = range(x)\n        return tuple(k for k in ks)\n", "L23"),
     ("def at(x):\n    return x.isspaces()\n", "L25"),
     ("def at(x):\n    return 2 ** x\n", "L27"),
     ("WORD = '5%'\n", "L27"),
@@ -85,7 +100,10 @@ def at(box, place):
     if place is None or place > MOST:
         raise Bad(place)
     box.put(place)
-    return tuple(row for row in box.rows if row != place)
+    places = range(len(box.rows))
+    if place in places:
+        return [box.rows[at] for at in places]
+    return tuple(row for row in list(range(place)) if row != place)
 '''
 
 
