@@ -1,7 +1,7 @@
 """Arrays: shelves with cells, which of them are kept, and what their rows tell."""
 
 from sumstand.errors import BadCells, BadColumn, BadRow, BadShelf, New, NotLost, NotStanding, Spoilt
-from sumstand.errors import TooMany, TooManyLost
+from sumstand.errors import TooMany, TooManyLost, Torn
 from sumstand.forms import is_from, is_row, is_tuple_of
 from sumstand.judge import stands
 from sumstand.readings import told_standing, whole_standing
@@ -81,8 +81,7 @@ class Array:
         if n == GREATEST_DATA:
             raise TooMany(n + 1)
         check_no_new(self)
-        longer = tuple(row + (number,) for row, number in zip(table, column))
-        check_standing((p, wide, n + 1, longer, e))
+        check_standing((p, wide, n + 1, with_column(table, column), e))
         check_cells(self, cells)
         self._column = column
         self._states.append(NEW)
@@ -104,6 +103,31 @@ class Array:
         self.shape = shape
         self._states.insert(len(table), FILLING)
         self._cells.insert(len(table), list(cells))
+
+    def keep_filling(self):
+        """Let all filling shelves be kept; nothing is asked of their cells."""
+        self._states = [KEPT if state == FILLING else state for state in self._states]
+
+    def join_new(self):
+        """Let the new shelf be the last data shelf, kept; nothing is asked of its cells."""
+        p, wide, n, table, e = self.shape
+        self.shape = (p, wide, n + 1, with_column(table, self._column), e)
+        self._states[-1] = KEPT
+        self._column = None
+
+    def take_data_away(self):
+        """Take the last data shelf away, with its column of the table, while there is no new shelf."""
+        p, wide, n, table, e = self.shape
+        self.shape = (p, wide, n - 1, tuple(row[:-1] for row in table), e)
+        self._states.pop()
+        self._cells.pop()
+
+    def take_sum_away(self):
+        """Take the last sum away, with its row of the table; e is one less."""
+        p, wide, n, table, e = self.shape
+        self.shape = (p, wide, n, table[:-1], e - 1)
+        del self._states[len(table) - 1]
+        del self._cells[len(table) - 1]
 
     def put(self, shelf, row, cell):
         """Write a cell, which falls away on a lost shelf; nothing is asked of its form."""
@@ -141,6 +165,11 @@ def is_whole(array, row):
     return whole_standing(array.shape, array.left(row)) is not None
 
 
+def with_column(table, column):
+    """Return a table with one more column."""
+    return tuple(row + (number,) for row, number in zip(table, column))
+
+
 def check_standing(shape):
     """Raise NotStanding unless a shape stands."""
     if not stands(shape):
@@ -172,3 +201,10 @@ def check_no_new(array):
     """Raise New if an array has a new shelf."""
     if array.new_column() is not None:
         raise New(0)
+
+
+def check_whole(array):
+    """Raise Torn of the first row of an array that is not whole, also if it is spoilt."""
+    for row in range(array.rows):
+        if not is_whole(array, row):
+            raise Torn(row)

@@ -1,9 +1,12 @@
 """Arrays for tests: shapes that stand, arrays with told rows, and all that can be seen of an array."""
 
+import copy
+
 from sumstand.batches import do
+from sumstand.scrub import looks
 from sumstand.shelves import Array
 from sumstand.stories import left_by
-from tests.helpers import GREAT, GREAT_TABLE, SHAPE, some_story
+from tests.helpers import Case, GREAT, GREAT_TABLE, SHAPE, some_story
 from tests.listing import losses, put, right_of, shelves
 
 COPIES = (7, 1, 1, ((1,), (1,), (1,)), 1)
@@ -92,3 +95,45 @@ def some_row(numbers, shape):
     story = some_story(numbers, shape)
     data, x, cell, _ = story
     return left_by(shape, story, ()), (data, put(data, x, cell))
+
+
+def torn_rows(numbers, shape, rows):
+    """An array with rows that stories leave, and for each row the ends of its story."""
+    pairs = [some_row(numbers, shape) for _ in range(rows)]
+    return filled(shape, [row for row, _ in pairs]), [ends for _, ends in pairs]
+
+
+def lose_all(array, lost):
+    for shelf in lost:
+        array.lose(shelf)
+
+
+def unkept(array):
+    """The shelves that are filling or lost."""
+    return tuple(shelf for shelf in range(shelves(array.shape)) if array.state(shelf) != "kept")
+
+
+def twin(array):
+    """The very same array once more, a new shelf with it."""
+    return copy.deepcopy(array)
+
+
+def spoil(array, row):
+    """Give a row cells that no story leaves, or tell that there are none such of this shape."""
+    p, wide, _, _, _ = array.shape
+    count = shelves(array.shape)
+    for number in range(1, 400):
+        cells = tuple(((number * (shelf + 3) ** 3 + shelf) % p,) * wide for shelf in range(count))
+        do(array, (tuple((shelf, row, cell) for shelf, cell in enumerate(cells)),))
+        if looks(array)[row] == "spoilt":
+            return
+    raise LookupError("no such row was found")
+
+
+class Refusing(Case):
+    """A case that holds what is refused against all that an array tells ahead of the call and behind it."""
+
+    def changes_nothing(self, array, error, what, call, *given):
+        before = seen(array)
+        self.refused(error, what, call, *given)
+        self.same(seen(array), before)

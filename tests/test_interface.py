@@ -4,7 +4,7 @@ import importlib
 import inspect
 import unittest
 
-from tests.arrays import with_data
+from tests.arrays import filled, with_data
 from tests.helpers import Case, ROW_SHAPE, SHAPE
 
 FUNCTIONS = {
@@ -51,6 +51,12 @@ FUNCTIONS = {
     },
     "mending": {"mend_row": "array row", "ask": "array row"},
     "celltexts": {"array_text": "array", "read_array": "texts"},
+    "scrub": {"looks": "array", "scrub": "array"},
+    "filling": {"fill": "array", "trust": "array"},
+    "growth": {"blank": "array", "join": "array", "leave": "array", "sum_less": "array"},
+    "spots": {"clean": "shape", "spots": "array"},
+    "signs": {"is_name": "thing", "numbers_of": "text", "text_of": "numbers"},
+    "contents": {"least_depth": "wide size"},
 }
 
 # Of each class the arguments that its methods take.
@@ -84,6 +90,9 @@ BARE = (7, 1, 3, (), 1)
 ARRAY = with_data(COPY, [((1,),), ((3,),)])
 TEXTS = ("shape 5 1 1 1 2", "sum 2", "shelf 0 kept 2 1", "shelf 1 kept 1 3")
 CODE = (((0, 1, (1,)), (1, 1, (3,))),)
+GROWN = with_data((5, 1, 1, (), 0), [((1,),)])
+GROWN.new((), ((2,),))
+TORN = filled((5, 1, 1, ((1,), (1,), (1,)), 1), [((1,), (1,), (2,), (1,))])
 BARE_CLASH = ((0,), (((0,),) * 3, 0, (0,), ()), (((1,), (0,), (0,)), 0, (1,), ()))
 
 # Of each function a call with all arguments by name, and what it returns.
@@ -127,6 +136,17 @@ CALLS = (
     ("mending", "mend_row", {"row": 0, "array": ARRAY}, ()),
     ("mending", "ask", {"row": 0, "array": ARRAY}, ((), ((1,),))),
     ("celltexts", "array_text", {"array": ARRAY}, TEXTS),
+    ("scrub", "looks", {"array": ARRAY}, ("whole", "whole")),
+    ("scrub", "scrub", {"array": TORN}, (((2, 0, (1,)),),)),
+    ("filling", "fill", {"array": TORN}, (((2, 0, (1,)),),)),
+    ("filling", "trust", {"array": ARRAY}, None),
+    ("growth", "blank", {"array": GROWN}, (((1, 0, (0,)),),)),
+    ("spots", "clean", {"shape": ROW_SHAPE}, True),
+    ("spots", "spots", {"array": TORN}, ((0, 2),)),
+    ("signs", "is_name", {"thing": "a_0"}, True),
+    ("signs", "numbers_of", {"text": "/a"}, (38, 0)),
+    ("signs", "text_of", {"numbers": (38, 0)}, "/a"),
+    ("contents", "least_depth", {"size": 8, "wide": 8}, 2),
 )
 
 
@@ -182,9 +202,20 @@ class Interface(Case):
     def test_an_array_is_read(self):
         self.same(found("celltexts", "array_text")(found("celltexts", "read_array")(texts=TEXTS)), TEXTS)
 
+    def test_an_array_grows_and_leaves_again(self):
+        for named in (False, True):
+            array = with_data((7, 1, 1, ((1,), (1,)), 1), [((0,),)])
+            for name in ("sum_less", "join", "leave"):
+                if name == "join":
+                    array.new((3,), ((0,),))
+                call = found("growth", name)
+                self.same(call(array=array) if named else call(array), None)
+            self.same(found("celltexts", "array_text")(array), ("shape 7 1 1 0 1", "sum 1", "shelf 0 kept 0", "shelf 1 kept 0"))
+
     def test_each_listed_function_is_called(self):
-        # The one whose answer has no text of its own is called above.
-        called = sorted([(module, name) for module, name, _, _ in CALLS] + [("celltexts", "read_array")])
+        # Those whose answers have no text of their own, or that do not do the same twice, are called above.
+        others = [("celltexts", "read_array"), ("growth", "join"), ("growth", "leave"), ("growth", "sum_less")]
+        called = sorted([(module, name) for module, name, _, _ in CALLS] + others)
         listed = sorted((module, name) for module, names in FUNCTIONS.items() for name in names)
         self.assertEqual(called, listed)
 

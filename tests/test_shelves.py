@@ -7,20 +7,14 @@ from sumstand.errors import (
     BadCells, BadColumn, BadRow, BadShape, BadShelf, New, NotLost, NotStanding, Spoilt, TooMany, TooManyLost,
 )
 from sumstand.shelves import Array, is_whole, told_data
-from tests.arrays import BITS, COPIES, ELEVEN, STANDING, filled, part_of_great, seen, some_losses, with_data
+from tests.arrays import (
+    BITS, COPIES, ELEVEN, Refusing, STANDING, filled, part_of_great, seen, some_losses, with_data,
+)
 from tests.helpers import Case, GREAT, GREAT_TABLE, NO_NUMBERS, NO_TUPLES, Numbers, SHAPE, nested
 from tests.listing import behind_loss, put, right_of, shelves
 
 NO_ROW_COUNTS = NO_NUMBERS + (-1, 0, 65, 10**999)
 FALLEN = (7, 1, 2, ((1, 1), (1, 2), (1, 3)), 1)
-
-
-class Refusing(Case):
-    def changes_nothing(self, array, error, what, call, *given):
-        """The call is refused, and all that the array tells is as it was."""
-        before = seen(array)
-        self.refused(error, what, call, *given)
-        self.same(seen(array), before)
 
 
 class MadeArrays(Refusing):
