@@ -23,10 +23,7 @@ class Cells:
         if not is_address(self, a):
             raise BadAddress(a)
         x, row = divmod(a, self.array.rows)
-        data = whole_standing(self.array.shape, self.array.left(row))
-        if data is None:
-            raise Unwhole(row)
-        return data[x]
+        return whole_data(self.array, row)[x]
 
     def drive(self, writes):
         """Return the code that writes cells at addresses, one deed behind the other."""
@@ -42,6 +39,29 @@ class Cells:
             code.extend(change(self.array, row, told[row], x, cell))
             told[row] = with_cell(told[row], x, cell)
         return tuple(code)
+
+
+def glance(cells):
+    """Return a function that looks as cells do, but at each row just once, as it is when it is first come to."""
+    told = {}
+
+    def look(a):
+        if not is_address(cells, a):
+            raise BadAddress(a)
+        x, row = divmod(a, cells.array.rows)
+        if row not in told:
+            told[row] = whole_data(cells.array, row)
+        return told[row][x]
+
+    return look
+
+
+def whole_data(array, row):
+    """Return the data of a row; raise Unwhole if it is not whole."""
+    data = whole_standing(array.shape, array.left(row))
+    if data is None:
+        raise Unwhole(row)
+    return data
 
 
 def check_writes(cells, writes):

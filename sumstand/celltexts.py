@@ -2,6 +2,7 @@
 
 from sumstand.errors import BadCells, BadColumn, BadText, NotStanding, TooMany, TooManyLost
 from sumstand.fields import is_prime
+from sumstand.figures import numbers_in
 from sumstand.forms import is_from
 from sumstand.shapes import GREATEST_DATA, GREATEST_LOST, GREATEST_SUMS, GREATEST_WIDE, shelf_count
 from sumstand.shelves import FILLING, GREATEST_ROWS, KEPT, LOST, NEW, Array
@@ -59,7 +60,7 @@ def cell_text(cell):
 def first_numbers(texts):
     """Return the numbers of the first text: the prime, how wide cells are, n, e and the rows."""
     words = texts[0].split(" ") if texts else [""]
-    numbers = numbers_in(words[1:], GREATEST_TOLD)
+    numbers = numbers_in(words[1:], MOST_FIGURES, GREATEST_TOLD)
     if words[0] != "shape" or numbers is None or len(numbers) != 5:
         raise BadText(0)
     p, wide, n, e, rows = numbers
@@ -75,7 +76,7 @@ def read_table(texts, n, p):
     for index in range(1, len(texts)):
         if not texts[index].startswith("sum "):
             break
-        numbers = numbers_in(texts[index].split(" ")[1:], p - 1)
+        numbers = numbers_in(texts[index].split(" ")[1:], MOST_FIGURES, p - 1)
         if len(table) == GREATEST_SUMS or numbers is None or len(numbers) != n:
             raise BadText(index)
         table.append(numbers)
@@ -114,7 +115,7 @@ def read_rest(array, texts, index):
     head, _, tail = texts[index].partition(": ")
     words = tail.split(" ")
     heads = head.split(" ")
-    column = numbers_in(heads[1:], array.shape[0] - 1)
+    column = numbers_in(heads[1:], MOST_FIGURES, array.shape[0] - 1)
     cells = cells_in(words[3:], array.shape)
     if heads[0] != "column" or words[:3] != ["shelf", str(shelf_count(array.shape)), NEW]:
         raise BadText(index)
@@ -128,24 +129,7 @@ def read_rest(array, texts, index):
 
 def cells_in(words, shape):
     """Return the cells that words tell, each with its numbers parted by dots, None if one tells none."""
-    cells = [numbers_in(word.split("."), shape[0] - 1) for word in words]
+    cells = [numbers_in(word.split("."), MOST_FIGURES, shape[0] - 1) for word in words]
     if any(cell is None or len(cell) != shape[1] for cell in cells):
         return None
     return tuple(cells)
-
-
-def numbers_in(words, most):
-    """Return the numbers that words tell, None if one tells no number up to most."""
-    numbers = [number_in(word) for word in words]
-    if any(number is None or number > most for number in numbers):
-        return None
-    return tuple(numbers)
-
-
-def number_in(word):
-    """Return the number that a word tells in figures, without leading zeros, or None."""
-    if not word.isascii() or not word.isdigit() or len(word) > MOST_FIGURES:
-        return None
-    if word[0] == "0" and word != "0":
-        return None
-    return int(word)

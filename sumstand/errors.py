@@ -2,10 +2,11 @@
 
 
 class Refused(ValueError):
-    """A call was refused; what tells which value, or where it is wrong."""
+    """A call was refused; what tells which value, or where it is wrong, and word is the name of the class."""
 
     def __init__(self, what):
         self.what = what
+        self.word = self.__class__.__name__
 
 
 class BadShape(Refused):

@@ -1,12 +1,20 @@
 """The forms that values may have: numbers in a range, and tuples of such."""
 
 
+def is_number(thing):
+    """Return whether thing is a number, of any size and sign."""
+    # True and False are ints to Python, but no numbers here.
+    return isinstance(thing, int) and not isinstance(thing, bool)
+
+
 def is_from(thing, low, high):
     """Return whether thing is a number from low to high."""
-    # True and False are ints to Python, but no numbers here.
-    if not isinstance(thing, int) or isinstance(thing, bool):
-        return False
-    return low <= thing <= high
+    return is_number(thing) and low <= thing <= high
+
+
+def is_from_nought(thing):
+    """Return whether thing is a number from 0 on."""
+    return is_number(thing) and thing >= 0
 
 
 def is_tuple_of(thing, many):

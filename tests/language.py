@@ -256,6 +256,8 @@ def names_made_by(node):
         return [node.arg]
     if isinstance(node, ast.Name) and not isinstance(node.ctx, ast.Load):
         return [node.id]
+    if isinstance(node, (ast.MatchAs, ast.MatchStar, ast.ExceptHandler)) and node.name is not None:
+        return [node.name]
     return []
 
 
@@ -264,12 +266,23 @@ def call_faults(tree, defined):
     own = {node.name for node in ast.walk(tree) if isinstance(node, ast.FunctionDef)} | METHODS
     own = own.union(*defined.values())
     found = []
+    let = class_names(tree)
     for node in ast.walk(tree):
         if isinstance(node, ast.Call) and isinstance(node.func, ast.Attribute) and node.func.attr not in own:
             found.append((node.lineno, "L25", node.func.attr))
         if isinstance(node, ast.Attribute) and re.match(r"__|f_back|tb_next|co_names|args$", node.attr):
-            if node.attr != "__init__":
+            if node.attr != "__init__" and node not in let:
                 found.append((node.lineno, "L8", node.attr))
+    return found
+
+
+def class_names(tree):
+    """The attributes of each box.__class__.__name__ that is read, which may be."""
+    found = []
+    for node in ast.walk(tree):
+        if isinstance(node, ast.Attribute) and node.attr == "__name__" and isinstance(node.value, ast.Attribute):
+            if node.value.attr == "__class__" and isinstance(node.value.value, (ast.Name, ast.Attribute)):
+                found.extend([node, node.value])
     return found
 
 

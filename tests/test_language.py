@@ -42,6 +42,10 @@ BROKEN = (
     ("def at():\n    return 0.5\n", "L7"),
     ("def at(x):\n    return hash(x)\n", "L8"),
     ("def at(x):\n    return x.__class__\n", "L8"),
+    ("def at(x):\n    return x.__name__\n", "L8"),
+    ("def at(x):\n    return at(x).__class__.__name__\n", "L8"),
+    ("def at(x):\n    match x:\n        case [id, 1]:\n            return 2\n    return 3\n", "L17"),
+    ("def at(x):\n    match x:\n        case [1, *max]:\n            return 2\n    return 3\n", "L15"),
     ("def at():\n" + "    pass\n" * 40, "L10"),
     ("A = 1\n" * 400, "L10"),
     ("WORD = '" + "a" * 120 + "'\n", "L10"),
@@ -90,6 +94,7 @@ class Box:
 
     def __init__(self, rows):
         self.rows = rows
+        self.word = self.__class__.__name__
 
     def put(self, row):
         self.rows.append(row)
