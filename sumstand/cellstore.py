@@ -4,7 +4,7 @@ from sumstand.batches import change
 from sumstand.errors import BadAddress, BadWrite, Unwhole
 from sumstand.forms import is_from, is_tuple_of
 from sumstand.mending import ask
-from sumstand.readings import whole_standing
+from sumstand.shelves import data_if_whole
 from sumstand.stripes import is_cell, with_cell
 
 
@@ -23,7 +23,7 @@ class Cells:
         if not is_address(self, a):
             raise BadAddress(a)
         x, row = divmod(a, self.array.rows)
-        return whole_data(self.array, row)[x]
+        return data_of_whole(self.array, row)[x]
 
     def drive(self, writes):
         """Return the code that writes cells at addresses, one deed behind the other."""
@@ -50,15 +50,15 @@ def glance(cells):
             raise BadAddress(a)
         x, row = divmod(a, cells.array.rows)
         if row not in told:
-            told[row] = whole_data(cells.array, row)
+            told[row] = data_of_whole(cells.array, row)
         return told[row][x]
 
     return look
 
 
-def whole_data(array, row):
+def data_of_whole(array, row):
     """Return the data of a row; raise Unwhole if it is not whole."""
-    data = whole_standing(array.shape, array.left(row))
+    data = data_if_whole(array, row)
     if data is None:
         raise Unwhole(row)
     return data

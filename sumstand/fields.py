@@ -33,7 +33,7 @@ def inverse(a, p):
 
 def combined(row, factor, other, p):
     """Return row with factor times other added, place by place."""
-    return tuple((number + factor * added) % p for number, added in zip(row, other))
+    return tuple([(number + factor * added) % p for number, added in zip(row, other)])
 
 
 def times(matrix, other, many, p):
@@ -43,10 +43,12 @@ def times(matrix, other, many, p):
 
 def product_of(row, matrix, many, p):
     """Return the sum of the matrix's rows, each times its number of the row."""
-    total = (0,) * many
+    total = [0] * many
     for factor, other in zip(row, matrix):
-        total = combined(total, factor, other, p)
-    return total
+        # Data are nought so often that asking is worth it.
+        if factor != 0 and any(other):
+            total = [number + factor * added for number, added in zip(total, other)]
+    return tuple([number % p for number in total])
 
 
 def left_null(matrix, many, p):

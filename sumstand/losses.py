@@ -18,6 +18,7 @@ class Loss:
     def __init__(self, shape, lost):
         c = sum_count(shape)
         self.shape = shape
+        self.lost = lost
         self.kept = kept_sums(shape, lost)
         self.gone = tuple(shelf - c for shelf in lost if shelf >= c)
         self.matrix = tuple(tuple(shape[3][j][y] for y in self.gone) for j in self.kept)

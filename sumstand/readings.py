@@ -34,19 +34,13 @@ def told(shape, left):
     return data
 
 
-def told_standing(shape, left):
-    """Return what told does, of a shape that stands and at most e lost shelves.
+def told_standing(loss, left):
+    """Return what told does of a left row, where the shape stands and at most e shelves are lost.
 
     Nothing is asked of the forms, nor whether two stories clash, which none do then.
     """
-    loss = loss_of(shape, left)
     data = whole_data(loss, left)
     return torn_data(loss, left) if data is None else data
-
-
-def whole_standing(shape, left):
-    """Return the data whose right row is left, None if there are none; as told_standing, it asks nothing."""
-    return whole_data(loss_of(shape, left), left)
 
 
 def loss_of(shape, left):

@@ -4,7 +4,8 @@ from sumstand.errors import BadCells, BadColumn, BadRow, BadShelf, New, NotLost,
 from sumstand.errors import TooMany, TooManyLost, Torn
 from sumstand.forms import is_from, is_row, is_tuple_of
 from sumstand.judge import stands
-from sumstand.readings import told_standing, whole_standing
+from sumstand.losses import SolvedLoss
+from sumstand.readings import told_standing, whole_data
 from sumstand.shapes import GREATEST_DATA, GREATEST_LOST, GREATEST_SUMS, made_shape, shelf_count
 from sumstand.stripes import is_cell
 
@@ -30,6 +31,7 @@ class Array:
         self._states = [KEPT for _ in range(shelf_count(shape))]
         self._cells = [[(0,) * shape[1]] * rows for _ in range(shelf_count(shape))]
         self._column = None
+        self._loss = None
 
     def state(self, shelf):
         """Return whether a shelf is kept, filling, lost or new."""
@@ -142,6 +144,13 @@ class Array:
         """Return the column that came with the new shelf, None if there is none."""
         return self._column
 
+    def loss(self):
+        """Return what is reckoned of the shelves that are not kept, anew if they are others than before."""
+        lost = tuple(shelf for shelf in range(shelf_count(self.shape)) if self._states[shelf] != KEPT)
+        if self._loss is None or self._loss.lost != lost or self._loss.shape != self.shape:
+            self._loss = SolvedLoss(self.shape, lost)
+        return self._loss
+
     def unkept(self):
         """Return how many shelves are filling or lost."""
         return self._states.count(FILLING) + self._states.count(LOST)
@@ -154,7 +163,8 @@ class Array:
 
 def told_data(array, row):
     """Return the data that are told of a row; raise Spoilt if none are."""
-    data = told_standing(array.shape, array.left(row))
+    left = array.left(row)
+    data = told_standing(array.loss(), left)
     if data is None:
         raise Spoilt(row)
     return data
@@ -162,7 +172,13 @@ def told_data(array, row):
 
 def is_whole(array, row):
     """Return whether the kept cells of a row are those of the right row of its data."""
-    return whole_standing(array.shape, array.left(row)) is not None
+    return data_if_whole(array, row) is not None
+
+
+def data_if_whole(array, row):
+    """Return the data of a row that is whole, None of others."""
+    left = array.left(row)
+    return whole_data(array.loss(), left)
 
 
 def with_column(table, column):
