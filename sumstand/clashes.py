@@ -42,7 +42,7 @@ def anchors_of(loss, mark, factor):
 
 def clash_behind(loss, marks):
     """Return two stories with these marks, or at rest, that clash behind a loss, or None."""
-    if loss.back is None:
+    if loss.undo is None:
         return rest_clash(loss)
     fault = first_fault(loss, loss.null, marks)
     if fault is None:

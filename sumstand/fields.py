@@ -25,9 +25,9 @@ def inverse(a, p):
     rest, next_rest = p, a % p
     factor, next_factor = 0, 1
     while next_rest != 0:
-        times = rest // next_rest
-        rest, next_rest = next_rest, rest - times * next_rest
-        factor, next_factor = next_factor, factor - times * next_factor
+        often = rest // next_rest
+        rest, next_rest = next_rest, rest - often * next_rest
+        factor, next_factor = next_factor, factor - often * next_factor
     return factor % p
 
 

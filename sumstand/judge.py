@@ -41,4 +41,4 @@ def first_clash(shape):
 def found_safe(shape, lost):
     """Return whether a loss of a shape is safe, without asking for their form."""
     loss = SolvedLoss(shape, lost)
-    return loss.back is not None and first_fault(loss, loss.null, all_marks(loss)) is None
+    return loss.undo is not None and first_fault(loss, loss.null, all_marks(loss)) is None

@@ -31,7 +31,7 @@ class SolvedLoss(Loss):
         Loss.__init__(self, shape, lost)
         self.null = left_null(self.matrix, len(self.gone), shape[0])
         # None just if the columns are not free, so that other data have the same kept cells.
-        self.back = left_inverse(self.matrix, len(self.gone), shape[0])
+        self.undo = left_inverse(self.matrix, len(self.gone), shape[0])
 
 
 def losses_with_data(shape, many):
@@ -116,7 +116,7 @@ def with_mark(loss, rest, mark, factor, step):
 def filled(loss, data, rest):
     """Return data with that added to the lost ones which shows the rest on the kept sums."""
     p, wide, _, _, _ = loss.shape
-    for y, cell in zip(loss.gone, times(loss.back, rest, wide, p)):
+    for y, cell in zip(loss.gone, times(loss.undo, rest, wide, p)):
         data = with_cell(data, y, combined(data[y], 1, cell, p))
     return data
 

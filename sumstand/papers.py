@@ -16,7 +16,7 @@ def stand_paper(shape):
     if found is not None:
         raise Clash(found[0])
     losses = [(lost, SolvedLoss(shape, lost)) for lost in asked_losses(shape)]
-    return tuple((lost, loss.null, loss.back) for lost, loss in losses)
+    return tuple((lost, loss.null, loss.undo) for lost, loss in losses)
 
 
 def paper_right(shape, paper):

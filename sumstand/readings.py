@@ -47,7 +47,7 @@ def loss_of(shape, left):
     """Return the loss of a left row; raise TooFew if other data have the same kept cells."""
     lost = lost_of(left)
     loss = SolvedLoss(shape, lost)
-    if loss.back is None:
+    if loss.undo is None:
         raise TooFew(lost)
     return loss
 

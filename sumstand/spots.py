@@ -34,8 +34,8 @@ def spots(array):
 
 def are_unlike(table, x, y, p):
     """Return whether two columns of a table are no multiples of each other on any two rows."""
-    for one, two in combinations(table, 2):
-        if (one[x] * two[y] - one[y] * two[x]) % p == 0:
+    for j, k in combinations(range(len(table)), 2):
+        if (table[j][x] * table[k][y] - table[j][y] * table[k][x]) % p == 0:
             return False
     return True
 

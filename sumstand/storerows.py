@@ -11,12 +11,12 @@ def answer(store, text):
     """Do or answer a row of text; return the answer, or how it was refused."""
     words = text.split(" ") if isinstance(text, str) else []
     try:
-        return told(store, words)
+        return answered(store, words)
     except Refused as refused:
         return f"refused: {refused.word} {refused.what}"
 
 
-def told(store, words):
+def answered(store, words):
     """Do or answer the words of a row; raise BadRow if they are none."""
     deed = None if "" in words else deed_in(words)
     if deed is not None:

@@ -1,9 +1,9 @@
 """What of ../shared/LANGUAGE.md can be checked simply: faults(..) tells where a file breaks a rule.
 
 It checks rows, lines, signs, names, imports, what stands at module level, kinds of statements and
-expressions, builtins, methods of builtin values, how errors are raised and caught, and what reads a kept
-range, zip or view. It is narrower
-than the rules where the package needs no more: no sets, no lambdas, no decorators but L5's.
+expressions, builtins, methods of builtin values, attributes, how errors are raised and caught, and what
+reads a kept range, zip or view. It is narrower than the rules where the package needs no more: no sets, no
+lambdas, no decorators but L5's, and no attribute that is called as a method of any class is.
 """
 
 import ast
@@ -59,6 +59,11 @@ NO_WORDS = set(
     """type typing typing_extensions enum Enum IntEnum StrEnum Flag IntFlag Generic Protocol ABC ABCMeta
     namedtuple NamedTuple TypedDict TYPE_CHECKING abstractmethod dataclass overload contextmanager _wall
     _WallAttr""".split()
+)
+
+NO_ATTRIBUTES = set(
+    """items keys values pop update append clear extend insert remove reverse setdefault sort args encode decode
+    hex fromhex format format_map mro""".split()
 )
 
 # Calls whose value is walked on the spot, or kept under narrow conditions.
@@ -276,6 +281,18 @@ def call_faults(tree, defined):
     return found
 
 
+def attribute_faults(tree, defined):
+    """Attributes that are called as a method of some class is, or as L26 lets none be."""
+    found = []
+    for node in ast.walk(tree):
+        if isinstance(node, ast.Attribute) and isinstance(node.ctx, ast.Store):
+            if node.attr in defined.get("", set()):
+                found.append((node.lineno, "L18", f"{node.attr} is a method, too"))
+            if node.attr in NO_ATTRIBUTES:
+                found.append((node.lineno, "L26", node.attr))
+    return found
+
+
 def class_names(tree):
     """The attributes of each box.__class__.__name__ that is read, which may be."""
     found = []
@@ -343,7 +360,8 @@ def is_kept(value):
 
 
 CHECKS = (
-    level_faults, import_faults, size_faults, node_faults, name_faults, call_faults, error_faults, kept_faults,
+    level_faults, import_faults, size_faults, node_faults, name_faults, call_faults, attribute_faults, error_faults,
+    kept_faults,
 )
 
 

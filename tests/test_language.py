@@ -76,7 +76,10 @@ BROKEN = (
     ("def at(x):\n    ks = x.keys()\n    return min(k for k in ks)\n", "L23"),
     ("def at(x):\n    ks = x.values()\n    return ' '.join(k for k in ks)\n", "L23"),
     ("class At:\n    def at(self, x):\n        ks = range(x)\n        return tuple(k for k in ks)\n", "L23"),
+    ("class At:\n    def __init__(self, x):\n        self.put = x\n", "L18"),
+    ("def at(x, y):\n    x.put, y = y, x\n", "L18"),
     ("def at(x):\n    return x.isspaces()\n", "L25"),
+    ("class At:\n    def __init__(self, x):\n        self.items = x\n", "L26"),
     ("def at(x):\n    return 2 ** x\n", "L27"),
     ("WORD = '5%'\n", "L27"),
     ("WORD = '\\x41'\n", "L27"),
@@ -144,7 +147,7 @@ class Checks(unittest.TestCase):
     def test_each_broken_rule_is_seen(self):
         for source, rule in BROKEN:
             with self.subTest(source=source[:60], rule=rule):
-                told = [found for _, found, _ in language.faults("at.py", source, {"errors": {"Bad"}})]
+                told = [found for _, found, _ in language.faults("at.py", source, {"errors": {"Bad"}, "": {"put"}})]
                 self.assertIn(rule, told)
 
     def test_what_is_let_has_no_fault(self):
