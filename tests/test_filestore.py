@@ -1,6 +1,5 @@
 """Stores [71] and questions [72]: laying, opening, what is asked, and arrays that change beneath a store."""
 
-import inspect
 import unittest
 
 from sumstand.batches import do, stopped
@@ -236,20 +235,6 @@ class Questions(Refusing):
             self.refused(BadAddress, address, store.look, address)
         self.same(store.look(119), (0,) * 8)
 
-    def test_methods_and_their_arguments(self):
-        due = {
-            "look": "self address", "many": "self", "code": "self deed", "make_file": "self path", "make_folder": "self path",
-            "signpost": "self text path", "write": "self path at words", "cut": "self path size", "drop": "self path",
-            "link": "self path new", "move": "self path new", "limit": "self path words", "snap": "self name",
-            "forget": "self name", "forget_all": "self", "back": "self name", "tree": "self of", "kind": "self path of",
-            "names": "self path of", "size": "self path of", "links": "self path of", "read": "self path at many of",
-            "target": "self path of", "used": "self path of", "limit_of": "self path of", "snapshots": "self", "free": "self",
-            "needed": "self deed", "row": "self text",
-        }
-        for name, arguments in due.items():
-            self.assertTrue(inspect.isfunction(vars(Store)[name]))
-            self.same(list(inspect.signature(vars(Store)[name]).parameters), arguments.split())
-
 
 class Outside(Refusing):
     """A store keeps nothing beside the cells: the array is changed beneath it."""
@@ -337,6 +322,12 @@ class Outside(Refusing):
         leave(array)
         self.same((store.many(), store.names("/")), (12, ("f",)))
         self.same(told_by(open_store(array)), told_by(store))
+
+    def test_a_pointer_that_leads_to_no_address(self):
+        store = empty(20)
+        do(store.array, store.cells.drive(((0, (1, 20, 1, 0, 0, 0, 0, 0)),)))
+        self.changes_nothing(store.array, BadAddress, 20, store.tree)
+        self.same(store.row("names /"), "refused: BadAddress 20")
 
     def test_torn_rows_are_not_looked_at(self):
         array = Array(ONE, 20)

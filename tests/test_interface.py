@@ -6,6 +6,7 @@ import unittest
 
 from tests.arrays import filled, with_data
 from tests.helpers import Case, ROW_SHAPE, SHAPE
+from tests.stores import bare, filled_store
 
 FUNCTIONS = {
     "shapes": {"made_shape": "thing", "column": "shape x kept"},
@@ -57,6 +58,26 @@ FUNCTIONS = {
     "spots": {"clean": "shape", "spots": "array"},
     "signs": {"is_name": "thing", "numbers_of": "text", "text_of": "numbers"},
     "contents": {"least_depth": "wide size"},
+    "things": {"entry_words": "entries", "entries_in": "words"},
+    "making": {"content_cells": "wide words", "content_need": "wide old new"},
+    "reaching": {"reached": "look wide"},
+    "paths": {"is_path": "value"},
+    "filedeeds": {
+        "made_file": "tree prime path",
+        "written": "tree prime path at words",
+        "cut_to": "tree prime path size",
+    },
+    "folderdeeds": {
+        "made_folder": "tree prime path",
+        "made_signpost": "tree prime text path",
+        "dropped": "tree path",
+        "limited": "tree prime path words",
+    },
+    "linkdeeds": {"linked": "tree prime path new", "moved": "tree prime path new"},
+    "planning": {"planned": "store deed"},
+    "filestore": {"lay_store": "array", "open_store": "array"},
+    "looker": {"first_fault": "look many"},
+    "treetexts": {"tree_text": "store of", "tree_of": "rows"},
 }
 
 # Of each class the arguments that its methods take.
@@ -76,7 +97,43 @@ CLASSES = {
     "cellstore": {
         "Cells": {"__init__": "self array", "size": "self", "look": "self a", "drive": "self writes"},
     },
+    "filestore": {
+        "Store": {
+            "look": "self address",
+            "many": "self",
+            "code": "self deed",
+            "make_file": "self path",
+            "make_folder": "self path",
+            "signpost": "self text path",
+            "write": "self path at words",
+            "cut": "self path size",
+            "drop": "self path",
+            "link": "self path new",
+            "move": "self path new",
+            "limit": "self path words",
+            "snap": "self name",
+            "forget": "self name",
+            "back": "self name",
+            "forget_all": "self",
+            "tree": "self of",
+            "kind": "self path of",
+            "names": "self path of",
+            "size": "self path of",
+            "links": "self path of",
+            "read": "self path at many of",
+            "target": "self path of",
+            "used": "self path of",
+            "limit_of": "self path of",
+            "snapshots": "self",
+            "free": "self",
+            "needed": "self deed",
+            "row": "self text",
+        },
+    },
 }
+
+# The methods of a store that may be asked of a snapshot.
+OF = ("tree", "kind", "names", "size", "links", "read", "target", "used", "limit_of")
 
 DATA = ((3,), (5,))
 POWERS = ((1,), (2,), (4,))
@@ -93,6 +150,9 @@ CODE = (((0, 1, (1,)), (1, 1, (3,))),)
 GROWN = with_data((5, 1, 1, (), 0), [((1,),)])
 GROWN.new((), ((2,),))
 TORN = filled((5, 1, 1, ((1,), (1,), (1,)), 1), [((1,), (1,), (2,), (1,))])
+EMPTY_TREE = (None, (2, (), None))
+TREE = (None, (2, (("a", 2),), None), (1, (7, 8), None))
+STORE = filled_store(40, ("make_file", "/a"), ("write", "/a", 0, (7, 8)), ("snap", "s"))
 BARE_CLASH = ((0,), (((0,),) * 3, 0, (0,), ()), (((1,), (0,), (0,)), 0, (1,), ()))
 
 # Of each function a call with all arguments by name, and what it returns.
@@ -147,6 +207,24 @@ CALLS = (
     ("signs", "numbers_of", {"text": "/a"}, (38, 0)),
     ("signs", "text_of", {"numbers": (38, 0)}, "/a"),
     ("contents", "least_depth", {"size": 8, "wide": 8}, 2),
+    ("things", "entry_words", {"entries": (("a", 2), ("b_", 3))}, (1, 0, 2, 2, 1, 36, 3)),
+    ("things", "entries_in", {"words": (1, 0, 2, 2, 1, 36, 3)}, (("a", 2), ("b_", 3))),
+    ("making", "content_cells", {"words": (0,) * 7 + (5,), "wide": 8}, 2),
+    ("making", "content_need", {"new": (5, 6), "old": (5,), "wide": 8}, 1),
+    ("paths", "is_path", {"value": "/a/b2"}, True),
+    ("filedeeds", "made_file", {"path": "/a", "prime": 257, "tree": EMPTY_TREE}, TREE[:2] + ((1, (), None),)),
+    ("filedeeds", "written", {"words": (5,), "at": 4, "path": "/a", "prime": 257, "tree": TREE}, TREE[:2] + ((1, (7, 8, 0, 0, 5), None),)),
+    ("filedeeds", "cut_to", {"size": 1, "path": "/a", "prime": 257, "tree": TREE}, TREE[:2] + ((1, (7,), None),)),
+    ("folderdeeds", "made_folder", {"path": "/a", "prime": 257, "tree": EMPTY_TREE}, TREE[:2] + ((2, (), None),)),
+    ("folderdeeds", "made_signpost", {"path": "/a", "text": "/b", "prime": 257, "tree": EMPTY_TREE}, TREE[:2] + ((3, "/b", None),)),
+    ("folderdeeds", "dropped", {"path": "/a", "tree": TREE}, EMPTY_TREE),
+    ("folderdeeds", "limited", {"words": 2, "path": "/", "prime": 257, "tree": TREE}, (None, (2, (("a", 2),), 2), TREE[2])),
+    ("linkdeeds", "linked", {"new": "/b", "path": "/a", "prime": 257, "tree": TREE}, (None, (2, (("a", 2), ("b", 2)), None), TREE[2])),
+    ("linkdeeds", "moved", {"new": "/b", "path": "/a", "prime": 257, "tree": TREE}, (None, (2, (("b", 2),), None), TREE[2])),
+    ("planning", "planned", {"deed": ("write", "/a", 0, (7,)), "store": STORE}, ()),
+    ("looker", "first_fault", {"many": 40, "look": STORE.look}, None),
+    ("treetexts", "tree_text", {"of": "s", "store": STORE}, ("/a file 2: 7 8",)),
+    ("treetexts", "tree_of", {"rows": ("/a file 2: 7 8",)}, (("make_file", "/a"), ("write", "/a", 0, (7, 8)))),
 )
 
 
@@ -212,9 +290,23 @@ class Interface(Case):
                 self.same(call(array=array) if named else call(array), None)
             self.same(found("celltexts", "array_text")(array), ("shape 7 1 1 0 1", "sum 1", "shelf 0 kept 0", "shelf 1 kept 0"))
 
+    def test_a_store_is_laid_and_opened(self):
+        lay, opened = found("filestore", "lay_store"), found("filestore", "open_store")
+        for store in (lay(bare(20)), lay(array=bare(20)), opened(lay(bare(20)).array), opened(array=lay(bare(20)).array)):
+            self.assertIs(store.__class__, found("filestore", "Store"))
+            self.same(found("reaching", "reached")(store.look, 8), (0, 1, 2))
+            self.same(found("reaching", "reached")(wide=8, look=store.look), (0, 1, 2))
+            self.same(sorted(name for name in vars(store) if not name.startswith("_")), ["array", "cells", "prime", "wide"])
+
+    def test_arguments_that_may_be_left_out(self):
+        for call in [found("treetexts", "tree_text")] + [vars(found("filestore", "Store"))[name] for name in OF]:
+            parameters = list(inspect.signature(call).parameters.values())
+            self.assertEqual([(each.name, each.default) for each in parameters if each.default is not each.empty], [("of", None)])
+
     def test_each_listed_function_is_called(self):
         # Those whose answers have no text of their own, or that do not do the same twice, are called above.
         others = [("celltexts", "read_array"), ("growth", "join"), ("growth", "leave"), ("growth", "sum_less")]
+        others += [("filestore", "lay_store"), ("filestore", "open_store"), ("reaching", "reached")]
         called = sorted([(module, name) for module, name, _, _ in CALLS] + others)
         listed = sorted((module, name) for module, names in FUNCTIONS.items() for name in names)
         self.assertEqual(called, listed)

@@ -198,6 +198,23 @@ class Faults(Case):
                 cells[thing] = cells[thing][:3] + (42,) + cells[thing][4:]
             self.fault(tuple(cells), (thing, due) if due else None)
 
+    def test_signposts_of_as_many_signs_as_there_may_be(self):
+        text = "/" + "/".join(["a" * 12] * 20)
+        store = filled_store(200, ("signpost", text, "/s"), p=65521)
+        cells = tuple(store.look(a) for a in range(200))
+        self.fault(cells, None)
+        # One sign more: behind the size of 260 there lies one in the last LEAF, and 260 = 37 * 7 + 1.
+        thing = next(a for a in range(200) if cells[a][:2] == (2, 3))
+        self.same(cells[thing][3], 260)
+        self.fault(changed(cells, ((thing, 3), 261)), (thing, "entries"))
+
+    def test_trees_whose_topmost_cells_lie_at_the_first_and_the_last_address(self):
+        for first, last in ((1, 5), (5, 1)):
+            cells = {0: cell(1, first, 1, 2, 1, 4), 2: cell(4, 1, 18, last, 1), 3: cell(2, 2, 1), 4: cell(2, 2, 1)}
+            cells.update({first: cell(3, 0, 3), last: cell(3, 0, 4)})
+            self.fault(tuple(cells[a] for a in range(6)), None)
+            self.fault(tuple(cells[a] for a in range(6)), (0, "top") if first == 5 else (0, "entries"), many=5)
+
     def test_entries_of_snapshots(self):
         wrong = (0, "entries")
         self.faults(
